@@ -1,4 +1,4 @@
-"""Plain things: words, whole numbers, tuples of a bounded count."""
+"""Plain things: words, whole numbers, tuples of a bounded count, tuples of told forms."""
 
 LETTERS = "abcdefghijklmnopqrstuvwxyz"
 LONGEST_WORD = 8
@@ -19,3 +19,11 @@ def is_word(thing):
 def is_tuple_of(thing, fewest, most):
     """Whether a thing is a tuple with from fewest to most things in it."""
     return isinstance(thing, tuple) and fewest <= len(thing) <= most
+
+
+def form_of(thing, forms):
+    """The word that a thing begins with, where one of the forms (word, count of things) is its own; else None."""
+    for word, count in forms:
+        if is_tuple_of(thing, count, count) and thing[0] == word:
+            return word
+    return None

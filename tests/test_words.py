@@ -2,7 +2,7 @@
 
 import unittest
 
-from shapecourt.words import is_tuple_of, is_whole, is_word
+from shapecourt.words import form_of, is_tuple_of, is_whole, is_word
 
 NO_TEXTS = (0, 1, -1, 10 ** 59, True, False, None, (), ("a",), ("a", "b"), [], ["a"], {}, {"a": 1},
             b"a", b"", set(), object())
@@ -91,6 +91,20 @@ class TestIsTupleOf(unittest.TestCase):
         for thing in ("ab", [1, 2], 2, None, True, {1: 2, 3: 4}):
             with self.subTest(thing=thing):
                 self.assertIs(is_tuple_of(thing, 1, 3), False)
+
+
+class TestFormOf(unittest.TestCase):
+    FORMS = (("any", 1), ("num", 3))
+
+    def test_forms(self):
+        for thing, word in ((("any",), "any"), (("num", 0, None), "num"), (("num", "any", ()), "num")):
+            self.assertEqual(form_of(thing, self.FORMS), word)
+
+    def test_other_things(self):
+        for thing in ((), ("any", 0), ("num",), ("num", 0), ("num", 0, 0, 0), ("held", 0, 0), (0, 0, 0), ((),),
+                      "any", "num", 0, None, True):
+            with self.subTest(thing=thing):
+                self.assertIsNone(form_of(thing, self.FORMS))
 
 
 if __name__ == "__main__":
