@@ -96,6 +96,40 @@ class TestLanguage(unittest.TestCase):
                 if isinstance(node, ast.Name) and isinstance(node.ctx, ast.Load):
                     self.assertIn(node.id, known)
 
+    def test_no_method_is_an_attribute_elsewhere(self):
+        methods, attributes = set(), set()
+        for tree in self.each_tree():
+            for node in ast.walk(tree):
+                if isinstance(node, ast.ClassDef):
+                    methods |= {part.name for part in node.body if isinstance(part, ast.FunctionDef)}
+                elif isinstance(node, ast.Attribute) and isinstance(node.ctx, ast.Store):
+                    attributes.add(node.attr)
+        self.assertFalse(methods & attributes)
+
+    def test_imports_name_the_defining_file_and_go_no_round(self):
+        trees = {path.stem: ast.parse(path.read_text("ascii")) for path in files()}
+        imports = {name: [node for node in tree.body if isinstance(node, ast.ImportFrom)] for name, tree in trees.items()}
+        reached = {name: {node.module.split(".")[1] for node in nodes} for name, nodes in imports.items()}
+        for turn in trees:
+            reached = {name: told.union(*[reached[other] for other in told]) for name, told in reached.items()}
+        for name, nodes in imports.items():
+            self.assertNotIn(name, reached[name])
+            for node in nodes:
+                tree = trees[node.module.split(".")[1]]
+                defined = {part.name for part in tree.body if isinstance(part, (ast.FunctionDef, ast.ClassDef))}
+                defined |= {part.targets[0].id for part in tree.body if isinstance(part, ast.Assign)}
+                self.assertLessEqual({alias.name for alias in node.names}, defined)
+
+    def test_locals_have_no_imports_or_classes_name(self):
+        for tree in self.each_tree():
+            outer = {alias.name for part in tree.body if isinstance(part, ast.ImportFrom) for alias in part.names}
+            outer |= {part.name for part in tree.body if isinstance(part, ast.ClassDef)}
+            for node in ast.walk(tree):
+                if isinstance(node, ast.arg):
+                    self.assertNotIn(node.arg, outer)
+                elif isinstance(node, ast.Name) and isinstance(node.ctx, ast.Store):
+                    self.assertNotIn(node.id, outer)
+
 
 if __name__ == "__main__":
     unittest.main()

@@ -4,21 +4,11 @@ import copy
 import random
 import unittest
 
-from samples import HUGE, LEAF, MIXED, TREES, chance_value, coming, nested_value
+from samples import HUGE, LEAF, MIXED, TREES, chance_value, nested_value, spots_within
 from shapecourt.spots import is_spot, kind_at, part_at, put_at
 from shapecourt.values import is_value
 
 L, M, R = ("node", 0), ("node", 1), ("node", 2)
-
-
-def spots_within(book, kind, deep):
-    """Each spot of a kind of at most so many steps, with the kind at it."""
-    found = [((), kind)]
-    if deep > 0:
-        for make, fields in coming(book, kind):
-            for i, field in enumerate(fields):
-                found += [(((make, i),) + spot, end) for spot, end in spots_within(book, field, deep - 1)]
-    return found
 
 
 class SpotTest(unittest.TestCase):
