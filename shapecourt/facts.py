@@ -31,7 +31,7 @@ def stands(book, kind, facts, spot):
 
 
 def known_at(book, kind, facts, spot):
-    """The make known at a spot that stands, or None."""
+    """The make known at a spot that stands; None where none is, or the spot doesn't stand."""
     return known_by(book, kind, facts).known_at(spot)
 
 

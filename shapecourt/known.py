@@ -43,9 +43,9 @@ class Known:
         return kind
 
     def known_at(self, spot):
-        """The make known at a spot that stands, or None."""
-        kind = kind_reached(self.ground, self.kind, spot)
-        return self.makes.get(spot, self.ground.sole(kind))
+        """The make known at a spot that stands; None where none is, or the spot doesn't stand."""
+        kind = self.standing_kind(spot)
+        return None if kind is None else self.makes.get(spot, self.ground.sole(kind))
 
     def makes_to_see(self, spot):
         """The makes among which a look at a spot tells; none where it can't be looked at, or one is known."""

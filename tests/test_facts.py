@@ -232,6 +232,12 @@ class TestStands(unittest.TestCase):
         self.assertEqual(known_at(MIXED, "pair", [], (("both", 1),)), "case")
         self.assertIsNone(known_at(MIXED, "pair", [], (("both", 2),)))
 
+    def test_nothing_is_known_at_a_spot_that_does_not_stand(self):
+        for facts, spot in (([], (T,)), ([IS_LEAF], (T,)), ([IS_NODE], (T,)), ([IS_NODE], (L, T)),
+                            ([IS_NODE, ("is", (L,), "leaf")], (L, T)), ([], (L,)), ([IS_TIP], (L, T))):
+            self.assertIsNone(known_at(MIXED, "tree", facts, spot))
+            self.assertIs(stands(MIXED, "tree", facts, spot), False)
+
     def test_by_chance(self):
         chance = random.Random(16)
         for number in range(60):
