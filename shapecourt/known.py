@@ -24,6 +24,8 @@ class Known:
         self.kind = kind
         self.makes = makes
         self.bounds = bounds
+        # The words told so far: rows ask for the same tests again and again.
+        self.words = {}
 
     def way_word(self, spot):
         """Of a spot of the kind: sure where it stands, barred where another make is known on the way, else open."""
@@ -82,8 +84,8 @@ class Known:
             return SURE
         return BARRED if self.bounds.is_told(q, p, -d - 1) else OPEN
 
-    def word_of(self, test):
-        """The word of a test; the facts are not at odds."""
+    def fresh_word(self, test):
+        """The word of a test, worked out."""
         spots = [test[1]] if test[0] == "is" else [spot for spot in (test[1], test[2]) if spot is not None]
         word = whole_word([self.way_word(spot) for spot in spots])
         if word != SURE:
@@ -92,16 +94,40 @@ class Known:
             return self.make_word(test[1], test[2])
         return self.most_word(test[1], test[2], test[3])
 
+    def word_of(self, test):
+        """The word of a test; the facts are not at odds."""
+        if test not in self.words:
+            self.words[test] = self.fresh_word(test)
+        return self.words[test]
+
     def line_word(self, line):
         """The word of a line."""
-        return whole_word([self.word_of(test) for test in line[0]])
+        told = SURE
+        for test in line[0]:
+            word = self.word_of(test)
+            if word == BARRED:
+                return BARRED
+            if word == OPEN:
+                told = OPEN
+        return told
+
+    def open_test(self, line):
+        """The first open test of a line; None where it has none."""
+        for test in line[0]:
+            if self.word_of(test) == OPEN:
+                return test
+        return None
 
     def row_word(self, lines):
         """The word of a row, told by its lines."""
-        words = [self.line_word(line) for line in lines]
-        if SURE in words:
-            return SURE
-        return OPEN if OPEN in words else BARRED
+        told = BARRED
+        for line in lines:
+            word = self.line_word(line)
+            if word == SURE:
+                return SURE
+            if word == OPEN:
+                told = OPEN
+        return told
 
     def decided(self, rows):
         """(i, k) where line k of row i is sure and each ahead of it barred; None where all are; else open."""

@@ -15,6 +15,64 @@ HUGE = 10 ** 60 - 1
 ANY = ("any",)
 LEAF = ("leaf",)
 NODE = ("make", "node", (ANY, ANY, ANY))
+LEAFED = ("make", "leaf", ())
+TIP = ("make", "tip", (ANY, ANY))
+KNOT = ("make", "knot", (ANY,))
+L, M, R = ("node", 0), ("node", 1), ("node", 2)
+T, U, C = ("tip", 0), ("tip", 1), ("case", 0)
+ODDS = ("odds",)
+# A rack has four looks of 5 outcomes, four of 3, and four numbers; no other make in it is looked at.
+RACKS = (
+    ("five", (("fa", ()), ("fb", ()), ("fc", ()), ("fd", ()), ("fe", ()))),
+    ("fives", (("fs", ("five", "five", "five", "five")),)),
+    ("three", (("ta", ()), ("tb", ()), ("tc", ("num",)))),
+    ("threes", (("ts", ("three", "three", "three", "three")),)),
+    ("nums", (("ns", ("num", "num", "num", "num")),)),
+    ("rack", (("rk", ("fives", "threes", "nums")),)),
+)
+
+
+def node(left=ANY, number=ANY, right=ANY):
+    return ("make", "node", (left, number, right))
+
+
+def cases_of(*shapes, first="tree"):
+    """Cases of so many rows without guards, each telling its number."""
+    return (first, "num", tuple((shape, (), ("num", i)) for i, shape in enumerate(shapes)))
+
+
+def look(spot, *papers):
+    return ("look", spot, papers)
+
+
+def split(p, q, d, yes, no):
+    return ("split", p, q, d, yes, no)
+
+
+def filled(make, shapes):
+    """A shape of a make of four parts, the last ones any."""
+    return ("make", make, tuple(shapes) + (ANY,) * (4 - len(shapes)))
+
+
+def rack(fives=0, threes=0, numbers=()):
+    """A shape of rack with so many looks at fives and at threes, and these shapes of numbers."""
+    return ("make", "rk", (filled("fs", [("make", "fa", ())] * fives), filled("ts", [("make", "ta", ())] * threes),
+                           filled("ns", numbers)))
+
+
+def chance_question(chance, count):
+    """Some question of so many rows; a row perhaps twice, or in both."""
+    numbers = range(count)
+    return tuple(tuple(chance.choices(numbers, k=chance.randint(0, 2))) if count else () for side in range(2))
+
+
+def answer_of(cases, value):
+    """What cases tell of a value, (row, answer) or None, read off the rows' shapes and guards."""
+    for i, row in enumerate(cases[2]):
+        found = row_binding(row, value)
+        if found is not None:
+            return (i, answered(row[2], found))
+    return None
 
 
 @functools.lru_cache(None)

@@ -4,7 +4,8 @@ import copy
 import random
 import unittest
 
-from samples import (ANY, HUGE, LEAF, MIXED, NODE, chance_cases, chance_value, coming, row_binding, spots_within)
+from samples import (ANY, C, HUGE, KNOT, L, LEAF, LEAFED, M, MIXED, NODE, ODDS, R, T, TIP, U, cases_of, chance_cases,
+                     chance_question, chance_value, coming, look, node, row_binding, split, spots_within)
 from shapecourt.errors import NoRow
 from shapecourt.cases import row_lines
 from shapecourt.facts import at_odds, in_order, known_at, met, row_word, stands, word_of
@@ -13,34 +14,10 @@ from shapecourt.papers import answers, lets
 from shapecourt.shapes import is_shape
 from shapecourt.spots import is_spot, kind_at
 
-L, M, R = ("node", 0), ("node", 1), ("node", 2)
-T, U, C = ("tip", 0), ("tip", 1), ("case", 0)
-LEAFED = ("make", "leaf", ())
-TIP = ("make", "tip", (ANY, ANY))
-KNOT = ("make", "knot", (ANY,))
-ODDS = ("odds",)
-
-
-def node(left=ANY, number=ANY, right=ANY):
-    return ("make", "node", (left, number, right))
-
-
-def cases_of(*shapes, first="tree"):
-    return (first, "num", tuple((shape, (), ("num", i)) for i, shape in enumerate(shapes)))
-
-
 # 0 leaf, 1 node, 2 tip, 3 node below 1, 4 node from 1 on, 5 any, 6 knot (never), 7 node of a node.
 CASES = cases_of(LEAFED, NODE, TIP, node(ANY, ("num", None, 0)), node(ANY, ("num", 1, None)), ANY, KNOT, node(NODE))
 TAKES = [("takes", i) for i in range(8)]
 MISSES = [("misses", i) for i in range(8)]
-
-
-def look(spot, *papers):
-    return ("look", spot, papers)
-
-
-def split(p, q, d, yes, no):
-    return ("split", p, q, d, yes, no)
 
 
 class TestAnswers(unittest.TestCase):
@@ -105,11 +82,6 @@ class TestAnswers(unittest.TestCase):
                 question = chance_question(chance, count)
                 expected = set(question[0]) <= set(taking) and not set(question[1]) & set(taking)
                 self.assertIs(answers(MIXED, cases, question, value), expected)
-
-
-def chance_question(chance, count):
-    numbers = range(count)
-    return tuple(tuple(chance.choices(numbers, k=chance.randint(0, 2))) if count else () for side in range(2))
 
 
 class PaperTest(unittest.TestCase):
