@@ -32,12 +32,16 @@ def looks_among(rows):
     return looks
 
 
+def look_test(split):
+    """The test that a split tells."""
+    return ("most",) + split[1:]
+
+
 def facts_from(ground, kind, look):
     """The fact of each outcome of a look at values of a kind, in order."""
     if look[0] == "look":
         return [("is", look[1], make) for make in ground.coming[kind_reached(ground, kind, look[1])]]
-    test = ("most",) + look[1:]
-    return [test, contrary(test)]
+    return [look_test(look), contrary(look_test(look))]
 
 
 def look_and_behind(tree):

@@ -6,7 +6,7 @@ from shapecourt.growing import own_tree
 from shapecourt.judging import let_by
 from shapecourt.known import OPEN, no_facts
 from shapecourt.lines import holds
-from shapecourt.looks import look_and_behind, looks_among
+from shapecourt.looks import look_and_behind, look_test, looks_among
 from shapecourt.spots import part_at
 
 
@@ -54,7 +54,7 @@ def tree_of(book, cases):
 def outcome_of(ground, look, value):
     """The number of the outcome that a look has for a value."""
     if look[0] == "split":
-        return 0 if holds(value, ("most",) + look[1:]) else 1
+        return 0 if holds(value, look_test(look)) else 1
     make = part_at(value, look[1])[0]
     return ground.coming[ground.kinds[make]].index(make)
 
