@@ -94,7 +94,8 @@ def least_tree(book, cases):
     if multiplied(ground, cases[0], asking.looks, 1) > MOST_STATES:
         raise TooMany("the looks have too many outcomes for the least tree")
     deep = asking.least_at(())[0]
-    return asking.tree_at(()), asking.paper_at((), deep - 1) if deep > 0 else None
+    paper = asking.paper_at((), deep - 1) if deep > 0 else None
+    return asking.tree_at(()), paper
 
 
 def papers_behind(asking, state, most, paper):

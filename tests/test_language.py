@@ -106,6 +106,20 @@ class TestLanguage(unittest.TestCase):
                     attributes.add(node.attr)
         self.assertFalse(methods & attributes)
 
+    def test_methods_and_builtins_are_called_where_they_stand(self):
+        methods = {part.name for path in files() for node in ast.walk(ast.parse(path.read_text("ascii")))
+                   if isinstance(node, ast.ClassDef) for part in node.body if isinstance(part, ast.FunctionDef)}
+        for tree in self.each_tree():
+            called = [node.func for node in ast.walk(tree) if isinstance(node, ast.Call)]
+            named = [part for node in ast.walk(tree) if isinstance(node, ast.Call) and isinstance(node.func, ast.Name)
+                     and node.func.id == "isinstance" for part in ast.walk(node.args[1])]
+            bases = [base for node in ast.walk(tree) if isinstance(node, ast.ClassDef) for base in node.bases]
+            for node in ast.walk(tree):
+                if isinstance(node, ast.Attribute) and node.attr in methods:
+                    self.assertIn(node, called)
+                elif isinstance(node, ast.Name) and node.id in BUILTINS:
+                    self.assertIn(node, called + named + bases)
+
     def test_imports_name_the_defining_file_and_go_no_round(self):
         trees = {path.stem: ast.parse(path.read_text("ascii")) for path in files()}
         imports = {name: [node for node in tree.body if isinstance(node, ast.ImportFrom)] for name, tree in trees.items()}
