@@ -66,6 +66,11 @@ def chance_question(chance, count):
     return tuple(tuple(chance.choices(numbers, k=chance.randint(0, 2))) if count else () for side in range(2))
 
 
+def numbers_in(value):
+    """Each number in a value."""
+    return [value] if isinstance(value, int) else [number for part in value[1:] for number in numbers_in(part)]
+
+
 def answer_of(cases, value):
     """What cases tell of a value, (row, answer) or None, read off the rows' shapes and guards."""
     for i, row in enumerate(cases[2]):

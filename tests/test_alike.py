@@ -5,7 +5,7 @@ import random
 import unittest
 
 from samples import (ANY, HUGE, KNOT, L, LEAFED, M, MIXED, NODE, ODDS, RACKS, TIP, U, answer_of, cases_of, chance_cases,
-                     chance_value, look, node, rack, split)
+                     chance_value, look, node, numbers_in, rack, split)
 from shapecourt.alike import alike, lets_alike
 from shapecourt.errors import TooMany
 from shapecourt.seeking import outcomes
@@ -51,6 +51,7 @@ class AlikeTest(unittest.TestCase):
             self.assertEqual(len(told), 2)
             self.assertTrue(is_value(book, one[0], told[1]))
             self.assertLessEqual(depth_of(told[1]), 30)
+            self.assertTrue(all(abs(number) < 10 ** 70 for number in numbers_in(told[1])))
             self.assertNotEqual(told_by(one, told[1]), told_by(other, told[1]))
         return told[1]
 

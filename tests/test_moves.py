@@ -5,7 +5,7 @@ import random
 import unittest
 
 from samples import (ANY, HUGE, KNOT, LEAF, LEAFED, MIXED, NODE, RACKS, TIP, answer_of, cases_of, chance_cases, chance_value,
-                     nested_shape, node, numbers_either, rack)
+                     nested_shape, node, numbers_either, numbers_in, rack)
 from shapecourt.alike import alike
 from shapecourt.cases import is_cases
 from shapecourt.errors import Changes, NoMerge, NoRow, TooMany
@@ -48,6 +48,7 @@ class MoveTest(unittest.TestCase):
         value = caught.exception.value
         self.assertTrue(is_value(book, cases[0], value))
         self.assertLessEqual(depth_of(value), 30)
+        self.assertTrue(all(abs(number) < 10 ** 70 for number in numbers_in(value)))
         self.assertNotEqual(told_by(cases, value), told_by((cases[0], cases[1], tuple(rows)), value))
         return value
 

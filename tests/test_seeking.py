@@ -5,7 +5,7 @@ import random
 import unittest
 
 from samples import (ANY, HUGE, KNOT, L, LEAF, LEAFED, M, MIXED, NODE, R, RACKS, T, TIP, U, answer_of, cases_of,
-                     chance_cases, chance_question, chance_value, node, rack, row_binding)
+                     chance_cases, chance_question, chance_value, node, numbers_in, rack, row_binding)
 from shapecourt.cases import row_lines
 from shapecourt.errors import NoRow, TooMany
 from shapecourt.facts import at_odds, in_order, met
@@ -33,10 +33,6 @@ def guarded(shape, *guard, first="tree"):
 def two_numbers(*guard):
     """Cases of one row that holds x and y of a box, with a guard."""
     return guarded(("make", "case", (("held", "x", ANY), ("held", "y", ANY))), *guard, first="box")
-
-
-def numbers_in(value):
-    return [value] if isinstance(value, int) else [number for part in value[1:] for number in numbers_in(part)]
 
 
 def looks_expected(tests):
